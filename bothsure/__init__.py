@@ -1,0 +1,1 @@
+"""Bothsure: two ends that must decide alike under a rule of loss."""

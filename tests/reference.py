@@ -1,0 +1,161 @@
+"""What the tests compare the program with: searches by hand, straight from the document.
+
+Nothing here uses the program. A table is a list of rows of four entries, in the order b, f, s, n.
+"""
+
+import random
+from itertools import product
+
+ORDER = "bfsn"
+
+
+def strings(most):
+    """All strings of at most `most` fates, shorter ones first, each length in the order of point 3."""
+    return ["".join(parts) for rounds in range(most + 1) for parts in product(ORDER, repeat=rounds)]
+
+
+def read(table, fates, state=0):
+    """The state behind the string of fates, whether or not the machine can go on from there."""
+    if not table:
+        return None
+    for fate in fates:
+        if state is None:
+            return None
+        state = table[state][ORDER.index(fate)]
+    return state
+
+
+def goes_on(table, state):
+    """Whether the machine can go on from the state forever: for as many rounds as there are rows."""
+    states = {state}
+    for _ in table:
+        states = {entry for at in states for entry in table[at] if entry is not None}
+    return bool(states)
+
+
+def allowed(table, fates):
+    state = read(table, fates)
+    return state is not None and goes_on(table, state)
+
+
+def allowed_by_both(left, right, fates):
+    """Whether the string is the beginning of an endless sequence that both tables allow."""
+    pairs = {(read(left, fates), read(right, fates))}
+    for _ in range(len(left) * len(right) + 1):
+        pairs = {pair for pair in pairs if None not in pair}
+        if not pairs:
+            return False
+        pairs = {pair for one, other in pairs for pair in zip(left[one], right[other])}
+    return True
+
+
+def allowed_by_change(left, right, fates):
+    """Whether the string is allowed by `left`, or cut somewhere into strings allowed by `left` and `right`."""
+    cuts = [at for at in range(len(fates) + 1)
+            if allowed(left, fates[:at]) and allowed(right, fates[at:])]
+    return allowed(left, fates) or bool(cuts)
+
+
+def allowed_by_then(left, right, rounds, fates):
+    """Whether the string is allowed by `left` for that many rounds, and by `right` behind them."""
+    if not allowed(left, "") or not allowed(right, ""):
+        return False
+    return allowed(left, fates[:rounds]) and allowed(right, fates[rounds:])
+
+
+def first_apart(left, right):
+    """The pairs of states behind equal strings, searched for one that shows a difference."""
+    if not allowed(left, "") or not allowed(right, ""):
+        return None if allowed(left, "") == allowed(right, "") else ""
+    met = {(0, 0): ""}
+    waiting = [(0, 0)]
+    while waiting:
+        pair = waiting.pop(0)
+        for at, fate in enumerate(ORDER):
+            behind = [table[state][at] for table, state in zip((left, right), pair)]
+            ways = [entry is not None and goes_on(table, entry)
+                    for table, entry in zip((left, right), behind)]
+            if ways[0] != ways[1]:
+                return met[pair] + fate
+            if ways[0] and tuple(behind) not in met:
+                met[tuple(behind)] = met[pair] + fate
+                waiting.append(tuple(behind))
+    return None
+
+
+def numbered_as_met(rows):
+    """Whether the states are numbered as they are first met, and all of them are met."""
+    met = [0]
+    for row in rows:
+        for entry in row:
+            if entry is not None and entry not in met:
+                met.append(entry)
+    return not rows or met == list(range(len(rows)))
+
+
+def different_states(rows):
+    """Whether no two states allow the same sequences, by marking pairs that differ."""
+    size = len(rows)
+    marked = {(one, other): [entry is None for entry in rows[one]] != [entry is None for entry in rows[other]]
+              for one in range(size) for other in range(size)}
+    changed = True
+    while changed:
+        changed = False
+        for one, other in [pair for pair in marked if not marked[pair]]:
+            if any(a is not None and marked[(a, b)] for a, b in zip(rows[one], rows[other])):
+                marked[(one, other)] = True
+                changed = True
+    return all(marked[(one, other)] for one in range(size) for other in range(size) if one != other)
+
+
+def view_by_letters(first, second, fates):
+    """The two views of a run, made round by round from letters (point 7)."""
+    views = [(first, None, "", 0), (second, None, "", 0)]
+    for at, fate in enumerate(fates):
+        before = list(views)
+        for end, arriving in enumerate(("bf", "bs")):
+            own, other, known, silent = before[end]
+            if fate in arriving:
+                views[end] = (own, before[1 - end][0], fates[:at], 0)
+            else:
+                views[end] = (own, other, known, silent + 1)
+    return views
+
+
+def random_table(chooser, size, missing):
+    """A table in which about `missing` of a hundred entries are None."""
+    return [[None if chooser.randrange(100) < missing else chooser.randrange(size) for _ in ORDER]
+            for _ in range(size)]
+
+
+def random_tables(seed, many, most):
+    """Tables of 1 to `most` rows, the same ones in each run of the tests."""
+    chooser = random.Random(seed)
+    return [random_table(chooser, chooser.randrange(1, most + 1), chooser.choice([20, 50, 70]))
+            for _ in range(many)]
+
+
+def disguised(seed, table):
+    """Another table for the same sequences: states doubled, shuffled, and useless ones added."""
+    chooser = random.Random(seed)
+    size = len(table)
+    names = list(range(1, 2 * size + 2))
+    chooser.shuffle(names)
+    places = [[names[state], names[size + state]] for state in range(size)]
+    places[0][0] = 0
+    dead = names[2 * size]
+    rows = {dead: [None] * 4}
+    for state, row in enumerate(table):
+        for place in places[state]:
+            rows[place] = [dead if entry is None and chooser.randrange(2) else
+                           None if entry is None else chooser.choice(places[entry]) for entry in row]
+    spare = [place for place in range(2 * size + 2) if place not in rows]
+    for place in spare:
+        rows[place] = [chooser.randrange(2 * size + 2) for _ in ORDER]
+    return [rows[place] for place in range(2 * size + 2)]
+
+
+def cycle(size, extra, everywhere="b"):
+    """A table that goes round in `size` states; the fates `extra` can be read in state 0 only."""
+    return [[(state + 1) % size if fate in everywhere or (fate in extra and state == 0) else None
+             for fate in ORDER] for state in range(size)]
