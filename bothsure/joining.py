@@ -1,4 +1,4 @@
-"""Tables made of two tables, both in normal form, for the operators of rules.
+"""Two tables, both in normal form: tables made of them for the operators of rules, and their order.
 
 The tables that are returned need not be normal forms. In each of them the
 start is state 0.
@@ -92,17 +92,32 @@ def rows_of_then(left, right, rounds):
 
 def is_within(left, right):
     """Tell whether everything that the left table allows is allowed by the right one."""
-    if not left or not right:
-        return not left
-    waiting = [(0, 0)]
-    met = {(0, 0): True}
-    while waiting:
-        one, other = waiting.pop()
-        for pair in zip(left[one], right[other]):
-            if pair[0] is None or pair in met:
+    return first_apart(left, right) is None
+
+
+def first_apart(left, right):
+    """Return the first string that the left table allows and the right one does not, or None.
+
+    The pairs of states behind equal strings are met in the order of the first
+    strings that lead to them, shorter strings first.
+    """
+    if not left:
+        return None
+    if not right:
+        return ""
+    order = [(0, 0)]
+    strings = {(0, 0): ""}
+    at = 0
+    while at < len(order):
+        one, other = order[at]
+        fates = strings[order[at]]
+        at += 1
+        for fate, one_behind, other_behind in zip(FATES, left[one], right[other]):
+            if one_behind is None:
                 continue
-            if pair[1] is None:
-                return False
-            met[pair] = True
-            waiting.append(pair)
-    return True
+            if other_behind is None:
+                return fates + fate
+            if (one_behind, other_behind) not in strings:
+                strings[(one_behind, other_behind)] = fates + fate
+                order.append((one_behind, other_behind))
+    return None

@@ -122,6 +122,66 @@ def view_by_letters(first, second, fates):
     return views
 
 
+def some_views(most_known, most_silent):
+    """All tuples of the form of a view up to these lengths, those that no run shows among them."""
+    return [(own, other, known, silent) for own in (0, 1) for other in (None, 0, 1)
+            for known in strings(most_known) for silent in range(most_silent + 1)]
+
+
+def runs_by_views(most):
+    """The parts of each run of at most `most` rounds, by the pair of views that it shows."""
+    return {tuple(view_by_letters(first, second, fates)): (first, second, fates)
+            for first in (0, 1) for second in (0, 1) for fates in strings(most)}
+
+
+def is_passable(rows, state, rounds):
+    """Point 16, word by word."""
+    if rounds == 0:
+        return True
+    ways = [entry is not None and is_passable(rows, entry, rounds - 1) for entry in rows[state]]
+    return ways[3] or (ways[0] and ways[1] and ways[2])
+
+
+def is_closed_set(rows, states):
+    """Point 18, word by word."""
+    return all(rows[state][3] in states or all(entry in states for entry in rows[state][:3])
+               for state in states)
+
+
+def closed_sets(rows):
+    """All closed sets, found by a look at every set of states."""
+    sets = [{state for state, chosen in enumerate(choice) if chosen}
+            for choice in product((False, True), repeat=len(rows))]
+    return [states for states in sets if is_closed_set(rows, states)]
+
+
+def has_chain(table, rounds):
+    """Whether a chain of point 15 exists: a walk from the bits 0 0 to the bits 1 1, run by run."""
+    fates_allowed = [fates for fates in strings(rounds) if len(fates) == rounds and allowed(table, fates)]
+    showing = {}
+    views = {}
+    for first, second, fates in product((0, 1), (0, 1), fates_allowed):
+        run = (first, second, fates)
+        views[run] = list(enumerate(view_by_letters(first, second, fates)))
+        for view in views[run]:
+            showing.setdefault(view, []).append(run)
+    waiting = [run for run in views if run[:2] == (0, 0)]
+    met = set(waiting)
+    while waiting:
+        for view in views[waiting.pop()]:
+            for run in showing.pop(view, []):
+                if run not in met:
+                    met.add(run)
+                    waiting.append(run)
+    return any(run[:2] == (1, 1) for run in met)
+
+
+def ladder(size, row):
+    """A table whose last row allows `b` only; in the others, `row` tells how far each fate leads on."""
+    rows = [[None if more is None else min(state + more, size - 1) for more in row] for state in range(size - 1)]
+    return rows + [[size - 1, None, None, None]]
+
+
 def random_table(chooser, size, missing):
     """A table in which about `missing` of a hundred entries are None."""
     return [[None if chooser.randrange(100) < missing else chooser.randrange(size) for _ in ORDER]

@@ -8,6 +8,8 @@ from bothsure.errors import (
     InvalidState, NeverSeen, NoChain, NotClosed, OutOfChain, SureError, Unmatched,
 )
 from bothsure.fates import arrives, swap_fates
+from bothsure.known import at_most_lost
+from bothsure.letters import End, join_views
 from bothsure.rules import Rule
 from bothsure.runs import Run, alike
 
@@ -33,6 +35,9 @@ RAISING = [
     (InvalidRule, lambda: Rule([[]])),
     (InvalidState, lambda: Rule([]).allowed_at(0)),
     (InvalidEnd, lambda: alike(Run(0, 0, ""), Run(0, 0, ""), to="both")),
+    (InvalidCount, lambda: at_most_lost(61)),
+    (InvalidBit, lambda: End("first", 2)),
+    (Unmatched, lambda: join_views((0, None, "", 0), (0, None, "", 1))),
 ]
 
 

@@ -1,8 +1,5 @@
 """The operators of rules and `then`: points 1, 12, 28 and 29."""
 
-import time
-import unittest
-
 from bothsure.errors import InvalidCount, SureError
 from bothsure.fates import swap_fates
 from bothsure.rules import Rule
@@ -10,6 +7,7 @@ from tests.reference import (
     allowed, allowed_by_both, allowed_by_change, allowed_by_then, cycle, different_states, disguised,
     first_apart, numbered_as_met, random_tables, strings,
 )
+from tests.timing import TimedCase
 
 N = None
 ANYTHING = [[0, 0, 0, 0]]
@@ -38,7 +36,7 @@ def tuples(table):
     return tuple(tuple(row) for row in table)
 
 
-class OperatorCase(unittest.TestCase):
+class OperatorCase(TimedCase):
     def assert_allows(self, rule, expected):
         """The rule allows exactly those short strings that the search by hand finds."""
         self.assertEqual([fates for fates in SHORT if expected(fates)],
@@ -47,12 +45,6 @@ class OperatorCase(unittest.TestCase):
         self.assertTrue(different_states(rule.rows))
         self.assertTrue(numbered_as_met(rule.rows))
         self.assertFalse((N, N, N, N) in rule.rows)
-
-    def assert_quick(self, call, seconds=10):
-        start = time.perf_counter()
-        found = call()
-        self.assertLess(time.perf_counter() - start, seconds)
-        return found
 
 
 class EitherTest(OperatorCase):
