@@ -6,15 +6,28 @@ A set of states is kept as a list of marks: for each state, True or False.
 from bothsure.checks import MOST_PASSED, check_count
 
 
+def marked_entries(row, marks):
+    """Tell for each fate, in the order of FATES, whether its entry is marked."""
+    return [entry is not None and marks[entry] for entry in row]
+
+
 def passes(row, marks):
     """Tell whether the entry for `n` is marked, or the entries for `b`, `f` and `s` all are."""
-    both, first, second, neither = [entry is not None and marks[entry] for entry in row]
+    both, first, second, neither = marked_entries(row, marks)
     return neither or (both and first and second)
 
 
 def passing(rows, marks):
     """Mark the states that pass by the given marks, those passable for one round more."""
     return [passes(row, marks) for row in rows]
+
+
+def marks_by_rounds(rows, rounds):
+    """List the marks of the states that are passable for no round, for one round, and so on."""
+    found = [[True] * len(rows)]
+    for _ in range(rounds):
+        found.append(passing(rows, found[-1]))
+    return found
 
 
 def marked_states(marks):
@@ -25,10 +38,7 @@ def marked_states(marks):
 def passable(rule, *, rounds):
     """Return the list of the states that are passable for that number of rounds."""
     check_count(rounds, MOST_PASSED)
-    marks = [True] * rule.size
-    for _ in range(rounds):
-        marks = passing(rule.rows, marks)
-    return marked_states(marks)
+    return marked_states(marks_by_rounds(rule.rows, rounds)[rounds])
 
 
 def is_closed(rule, states):

@@ -4,7 +4,7 @@ Nothing here uses the program. A table is a list of rows of four entries, in the
 """
 
 import random
-from itertools import product
+from itertools import combinations, product
 
 ORDER = "bfsn"
 
@@ -155,25 +155,102 @@ def closed_sets(rows):
     return [states for states in sets if is_closed_set(rows, states)]
 
 
-def has_chain(table, rounds):
-    """Whether a chain of point 15 exists: a walk from the bits 0 0 to the bits 1 1, run by run."""
-    fates_allowed = [fates for fates in strings(rounds) if len(fates) == rounds and allowed(table, fates)]
+def all_runs(table, rounds):
+    """The parts of all runs with allowed strings of that many fates."""
+    rows = trimmed(table) or []
+    fates_allowed = [fates for fates in strings(rounds) if len(fates) == rounds and read(rows, fates) is not None]
+    return [(first, second, fates) for first in (0, 1) for second in (0, 1) for fates in fates_allowed]
+
+
+def steps_from(runs, starts):
+    """How many neighbours on, alike to an end, each of the runs is from the nearest of the starts."""
+    views = {run: list(enumerate(view_by_letters(*run))) for run in runs}
     showing = {}
-    views = {}
-    for first, second, fates in product((0, 1), (0, 1), fates_allowed):
-        run = (first, second, fates)
-        views[run] = list(enumerate(view_by_letters(first, second, fates)))
+    for run in runs:
         for view in views[run]:
             showing.setdefault(view, []).append(run)
-    waiting = [run for run in views if run[:2] == (0, 0)]
-    met = set(waiting)
-    while waiting:
-        for view in views[waiting.pop()]:
-            for run in showing.pop(view, []):
-                if run not in met:
-                    met.add(run)
-                    waiting.append(run)
-    return any(run[:2] == (1, 1) for run in met)
+    steps = {run: 0 for run in starts}
+    waiting = list(starts)
+    for run in waiting:
+        for view in views[run]:
+            for other in showing.pop(view, []):
+                if other not in steps:
+                    steps[other] = steps[run] + 1
+                    waiting.append(other)
+    return steps
+
+
+def shortest_chain(table, rounds):
+    """How many runs the shortest chain of point 15 has, or None: a walk from the bits 0 0 to 1 1, run by run."""
+    runs = all_runs(table, rounds)
+    steps = steps_from(runs, [run for run in runs if run[:2] == (0, 0)])
+    return min([steps[run] + 1 for run in steps if run[:2] == (1, 1)], default=None)
+
+
+def has_chain(table, rounds):
+    return shortest_chain(table, rounds) is not None
+
+
+def decisions(table, rounds):
+    """What point 20 tells each end to decide, by the views that are shown; the lists of runs are searched."""
+    found = {}
+    for bits in product((0, 1), repeat=2):
+        runs = [run for run in all_runs(table, rounds) if run[:2] == bits]
+        silence = steps_from(runs, [run for run in runs if "b" not in run[2] and "s" not in run[2]])
+        for run in runs:
+            for end, view in zip(("first", "second"), view_by_letters(*run)):
+                if view[1] is None or view[1] == view[0]:
+                    found[(end, view)] = view[0]
+                else:
+                    found[(end, view)] = bits[1] if run in silence else bits[0]
+    return found
+
+
+def shown_views(table, rounds):
+    """The pairs of an end and a view that it is shown by some run of that many rounds."""
+    return {pair for run in all_runs(table, rounds) for pair in zip(("first", "second"), view_by_letters(*run))}
+
+
+def trimmed(table):
+    """The table without entries for states from which the machine cannot go on; None if it is empty."""
+    if not table or not goes_on(table, 0):
+        return None
+    lasting = [goes_on(table, state) for state in range(len(table))]
+    return [[entry if entry is not None and lasting[entry] else None for entry in row] for row in table]
+
+
+def without(table, arrows):
+    """The table with the entries of the arrows replaced by None."""
+    return [[None if (state, fate) in arrows else entry for fate, entry in zip(ORDER, row)]
+            for state, row in enumerate(table)]
+
+
+def can_be_sure(table):
+    """Whether the table is not empty, and the ends can be sure in as many rounds as it has rows (point 18)."""
+    rows = trimmed(table)
+    return rows is not None and not is_passable(rows, 0, len(rows))
+
+
+def fewest_arrows(table):
+    """Point 25, by a look at every set of arrows; the table is a normal form."""
+    arrows = [(state, fate) for state, row in enumerate(table) for fate, entry in zip(ORDER, row) if entry is not None]
+    for many in range(len(arrows) + 1):
+        for chosen in combinations(arrows, many):
+            if can_be_sure(without(table, chosen)):
+                return list(chosen)
+    return None
+
+
+def random_run(seed, rows, rounds):
+    """The parts of some run with an allowed string of that many fates; `rows` is a normal form."""
+    chooser = random.Random(seed)
+    state = 0
+    fates = ""
+    for _ in range(rounds):
+        fate = chooser.choice([fate for fate, entry in zip(ORDER, rows[state]) if entry is not None])
+        state = rows[state][ORDER.index(fate)]
+        fates += fate
+    return (chooser.randrange(2), chooser.randrange(2), fates)
 
 
 def ladder(size, row):

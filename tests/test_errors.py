@@ -3,13 +3,17 @@
 import unittest
 
 from bothsure import errors
+from bothsure.chains import Chain, spin
+from bothsure.deciding import Decider, shown
 from bothsure.errors import (
     CannotDecide, InvalidBit, InvalidCount, InvalidEnd, InvalidFate, InvalidNotation, InvalidRule,
     InvalidState, NeverSeen, NoChain, NotClosed, OutOfChain, SureError, Unmatched,
 )
 from bothsure.fates import arrives, swap_fates
-from bothsure.known import at_most_lost
+from bothsure.forbidding import forbid
+from bothsure.known import anything, at_most_lost, no_run, reliable
 from bothsure.letters import End, join_views
+from bothsure.notation import parse_rule
 from bothsure.rules import Rule
 from bothsure.runs import Run, alike
 
@@ -38,6 +42,21 @@ RAISING = [
     (InvalidCount, lambda: at_most_lost(61)),
     (InvalidBit, lambda: End("first", 2)),
     (Unmatched, lambda: join_views((0, None, "", 0), (0, None, "", 1))),
+    (InvalidEnd, lambda: shown(no_run(), "third", (0, None, "", 0))),
+    (InvalidCount, lambda: Decider(anything(), rounds=61)),
+    (CannotDecide, lambda: Decider(anything())),
+    (InvalidEnd, lambda: Decider(reliable())("third", (0, 1, "b", 0))),
+    (NeverSeen, lambda: Decider(reliable())("first", (0, 1, "b", 0))),
+    (InvalidCount, lambda: Chain(reliable(), rounds=61)),
+    (NoChain, lambda: Chain(reliable(), rounds=1)),
+    (OutOfChain, lambda: Chain(anything(), rounds=1)[3]),
+    (InvalidState, lambda: list(spin(anything(), [1], rounds=61))),
+    (InvalidCount, lambda: list(spin(anything(), [], rounds=61))),
+    (NotClosed, lambda: list(spin(anything(), [], rounds=60))),
+    (InvalidState, lambda: forbid(anything(), [(1, "x")])),
+    (InvalidFate, lambda: forbid(anything(), [(0, "x")])),
+    (InvalidNotation, lambda: parse_rule("0: b1\n")),
+    (InvalidRule, lambda: parse_rule("0: b1")),
 ]
 
 

@@ -1,11 +1,16 @@
-"""The examples of the document that use only the modules that have landed."""
+"""All examples of the document."""
 
 import unittest
 
+from bothsure.chains import Chain
 from bothsure.closing import closed_states, passable, rounds_needed
+from bothsure.deciding import Decider
+from bothsure.errors import InvalidNotation
 from bothsure.fates import arrives, swap_fates
+from bothsure.forbidding import fewest_to_forbid, forbid
 from bothsure.known import anything, at_most_lost, falls_silent, reliable
 from bothsure.letters import grow, join_views
+from bothsure.notation import format_rule, parse_rule
 from bothsure.rules import Rule
 from bothsure.runs import Run, alike
 from bothsure.words import apart, count, words
@@ -44,3 +49,21 @@ class ExamplesTest(unittest.TestCase):
         one = Rule([[1, 1, None, None], [1, 1, 1, 1]])
         other = Rule([[1, None, 1, None], [1, 1, 1, 1]])
         self.assertEqual([1, 1, None], [rounds_needed(one), rounds_needed(other), rounds_needed(one | other)])
+
+    def test_deciding(self):
+        decider = Decider(falls_silent())
+        self.assertEqual([1, 0], [decider("first", (0, 1, "f", 0)), decider("second", (1, 0, "", 1))])
+
+    def test_chains(self):
+        self.assertEqual(5, Chain(at_most_lost(1), rounds=1).length)
+        self.assertEqual(1, Chain(anything(), rounds=60)[2].first)
+
+    def test_forbidding(self):
+        self.assertEqual([(0, "b"), (0, "n")], fewest_to_forbid(anything()))
+        self.assertEqual(((None, 0, 0, None),), forbid(anything(), [(0, "b"), (0, "n")]).rows)
+
+    def test_notation(self):
+        self.assertEqual("0: b0 f1 s2\n1: f1\n2: s2", format_rule(falls_silent()))
+        with self.assertRaises(InvalidNotation) as held:
+            parse_rule("0: b1\n1: b01")
+        self.assertEqual(1, held.exception.line)

@@ -25,12 +25,18 @@ INTERFACE = {
     "known": "anything no_run reliable at_most_lost one_way falls_silent losses_apart",
     "words": "words count apart",
     "closing": "passable is_closed closed_states rounds_needed",
+    "deciding": "shown Decider",
+    "chains": "Chain spin",
+    "forbidding": "forbid fewest_to_forbid",
+    "notation": "format_rule parse_rule",
 }
 LISTED = {
     "Run": "__init__ rounds __getitem__ __iter__ __eq__ __str__ seen cut swapped",
     "Rule": "__init__ size empty step after allowed_at then __or__ __and__ __rshift__ __invert__ __contains__ "
             "__le__ __lt__ __eq__",
     "End": "__init__ view receive",
+    "Decider": "__init__ rounds __call__",
+    "Chain": "__init__ rounds length __getitem__ piece",
 }
 
 
